@@ -1,0 +1,1 @@
+"""Humpcodes: codes of orbits under maps with one hump."""

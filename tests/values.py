@@ -1,0 +1,40 @@
+"""Values that are no codes, no admissible codes, no integers from 1 on."""
+
+
+def nested(value, depth):
+    """The value in lists and tuples of so many levels, alternately."""
+    for level in range(depth):
+        value = [value] if level % 2 == 0 else (value,)
+    return value
+
+
+HUGE = 10 ** 5000
+
+NO_STRINGS = [
+    0, 1, -1, 3, 40, 10 ** 30, HUGE, -HUGE, True, False, None,
+    (), [], ("C",), ["C"], ("RC",), ["RC"], ("R", "C"), ["R", "L", "C"], (1, 2), [[]], ((),),
+    ["RC", None], ("RLC", "RC"), nested("C", 2), nested("RC", 8), nested(None, 8),
+]
+
+NO_CODE_STRINGS = [
+    "", " ", "c", "rc", "Rc", "rlc", "rLC", "R", "L", "RL", "RLR", "LLL", " C", "C ", " RC", "RC ", "R C",
+    "RC\n", "\nRC", "R\nC", "RC\x00", "CC", "CRC", "RCC", "RCRC", "RCL", "RLCR", "CL", "RXC", "XC", "0C", "RC0",
+    "RlC", "R.C", "R,L,C", "None", "True", "['R', 'C']", "R" * 39, "L" * 40, "RL" * 20,
+    "RL" + "R" * 38 + "C", "R" + "L" * 39 + "C", "L" * 40 + "C", "R" * 40 + "C", "RL" * 50 + "C", "R\u0421",
+]
+
+NO_CODES = NO_STRINGS + NO_CODE_STRINGS
+
+# Codes that have a greater tail.
+NOT_ADMISSIBLE = [
+    "LC", "LLC", "LRC", "RRC", "RRLC", "RLRLC", "RRRC", "LRLC", "RLRLLC", "RLLRLLC", "L" * 39 + "C", "R" * 39 + "C",
+    "RL" + "RL" * 18 + "RC",
+]
+
+NO_ADMISSIBLE_CODES = NO_CODES + NOT_ADMISSIBLE
+
+# No integers from 1 on.
+NO_PERIODS = [
+    0, -1, -2, -3, -40, -1000, -10 ** 30, -HUGE, True, False, None, "", "1", "3", "RC", "C", " ", "one",
+    (), [], (1,), [1], (3,), [3], [[3]], (1, 2), ["3"], (None,), nested(3, 8), nested(1, 2),
+]
