@@ -10,6 +10,10 @@ import humpcodes
 FUNCTIONS = {
     "codes": ["is_code", "compare", "is_admissible", "greater_tail"],
     "listing": ["count_codes", "codes_of_period", "codes_up_to", "next_code"],
+    "products": ["product", "quotient", "factors", "is_prime"],
+    "least": ["least_code", "greatest_code", "precedes", "first_period", "has_period"],
+    "between": ["are_neighbours", "shortest_between"],
+    "orbits": ["positions", "permutation", "is_hump", "code_of"],
 }
 
 EXAMPLES = [
@@ -21,6 +25,21 @@ EXAMPLES = [
     ("listing", "codes_of_period", (5,), "['RLRRC', 'RLLRC', 'RLLLC']"),
     ("listing", "codes_up_to", (4,), "['C', 'RC', 'RLRC', 'RLC', 'RLLC']"),
     ("listing", "next_code", ("RLRC", 5), "'RLRRC'"),
+    ("products", "product", ("RC", "RLC"), "'RLRRRC'"),
+    ("products", "quotient", ("RLRRRC", "RC"), "'RLC'"),
+    ("products", "factors", ("RLLRLC",), "['RLC', 'RC']"),
+    ("products", "is_prime", ("RLRRC",), "True"),
+    ("least", "least_code", (6,), "'RLRRRC'"),
+    ("least", "greatest_code", (4,), "'RLLC'"),
+    ("least", "precedes", (5, 6), "True"),
+    ("least", "first_period", ("RLLC",), "3"),
+    ("least", "has_period", ("RLRRC", 3), "False"),
+    ("between", "are_neighbours", ("RLRC", "RC"), "True"),
+    ("between", "shortest_between", ("RLRRC", "RLC"), "'RLRRLRC'"),
+    ("orbits", "positions", ("RLRC",), "(3, 0, 2, 1)"),
+    ("orbits", "permutation", ("RLRC",), "(2, 3, 1, 0)"),
+    ("orbits", "is_hump", ((1, 0, 2),), "False"),
+    ("orbits", "code_of", ((1, 2, 0),), "'RLC'"),
 ]
 
 LIBRARY = ["__future__", "collections", "heapq", "itertools", "math"]
@@ -48,7 +67,7 @@ class InterfaceTest(unittest.TestCase):
 
     def test_nothing_from_outside_is_used(self):
         files = sorted(pathlib.Path(humpcodes.__file__).parent.rglob("*.py"))
-        self.assertGreater(len(files), 3)
+        self.assertGreater(len(files), 6)
         for file in files:
             for node in ast.walk(ast.parse(file.read_text())):
                 with self.subTest(file=file.name):
