@@ -19,9 +19,14 @@ def require_code(value):
         raise NotACode("a code has at most 39 letters L and R, then C")
 
 
+def is_admissible_code(value):
+    """Return True if the value, any value, is an admissible code."""
+    return is_code(value) and first_greater(value) is None
+
+
 def require_admissible(value):
     """Raise NotAdmissible unless the value is an admissible code."""
-    if not is_code(value) or first_greater(value) is not None:
+    if not is_admissible_code(value):
         raise NotAdmissible("this is not an admissible code")
 
 
@@ -42,6 +47,17 @@ def order(first, second):
         if one == "R":
             sign = -sign
     return 0
+
+
+def order_key(code):
+    """Return a list of numbers; such lists of codes are in the same order as the codes."""
+    numbers = []
+    sign = 1
+    for letter in code:
+        numbers.append(sign * (LETTERS.index(letter) - 1))
+        if letter == "R":
+            sign = -sign
+    return numbers
 
 
 def first_greater(letters):

@@ -1,6 +1,6 @@
 """Checks of integers that several files share."""
 
-from humpcodes.errors import InvalidPeriod
+from humpcodes.errors import InvalidCount, InvalidPeriod
 
 
 def is_whole_number(value):
@@ -15,3 +15,9 @@ def require_period(value, limit=None):
         raise InvalidPeriod("a period is an integer from 1 on")
     if limit is not None and value > limit:
         raise InvalidPeriod("the period is too large")
+
+
+def require_count(value, least, greatest):
+    """Raise InvalidCount unless the value is an integer from the least to the greatest one."""
+    if not is_whole_number(value) or not least <= value <= greatest:
+        raise InvalidCount("the number is not an integer that is allowed here")

@@ -1,6 +1,6 @@
 """The order of the points of an orbit, and the permutation by which they move."""
 
-from humpcodes.codes import LIMIT, order, require_admissible
+from humpcodes.codes import LIMIT, order_key, require_admissible
 from humpcodes.errors import InvalidPermutation
 from humpcodes.integers import is_whole_number
 
@@ -8,8 +8,10 @@ from humpcodes.integers import is_whole_number
 def positions(code):
     """Return the tuple of the positions of the points 0, 1, ... of an admissible code."""
     require_admissible(code)
-    tails = [code[index:] for index in range(len(code))]
-    return tuple([_count_less(tail, tails) for tail in tails])
+    places = [0] * len(code)
+    for place, point in enumerate(ascending_points(code)):
+        places[point] = place
+    return tuple(places)
 
 
 def permutation(code):
@@ -38,12 +40,19 @@ def code_of(moves):
         raise InvalidPermutation("this is not a hump permutation")
     top = len(moves) - 1
     turning = moves.index(top)
-    return "".join([_letter(place, turning) for place in _cycle_from(top, moves)])
+    return "".join([letter_beside(place, turning) for place in _cycle_from(top, moves)])
 
 
-def _count_less(tail, tails):
-    """Return how many of the tails are less than the tail."""
-    return len([other for other in tails if order(other, tail) < 0])
+def ascending_points(code):
+    """Return the numbers of the points of a code in ascending order of their tails."""
+    return sorted(range(len(code)), key=lambda point: order_key(code[point:]))
+
+
+def letter_beside(place, turning):
+    """Return the letter of a place, seen from the turning one."""
+    if place == turning:
+        return "C"
+    return "L" if place < turning else "R"
 
 
 def _cycle_from(start, moves):
@@ -60,10 +69,3 @@ def _has_one_hump(moves):
     rising = list(moves[:turning])
     falling = list(moves[turning:])
     return rising == sorted(rising) and falling == sorted(falling, reverse=True)
-
-
-def _letter(place, turning):
-    """Return the letter of a position, seen from the turning position."""
-    if place == turning:
-        return "C"
-    return "L" if place < turning else "R"

@@ -14,6 +14,10 @@ FUNCTIONS = {
     "least": ["least_code", "greatest_code", "precedes", "first_period", "has_period"],
     "between": ["are_neighbours", "shortest_between"],
     "orbits": ["positions", "permutation", "is_hump", "code_of"],
+    "strokes": ["is_point", "image", "image_after", "itinerary", "orbit", "least_period"],
+    "words": ["is_word", "word_period", "is_realised", "point_of_word"],
+    "forcing": ["forces", "words_of", "points_of_code", "point_of_period", "periods_up_to"],
+    "cycles": ["realised_words", "cycles", "count_returns", "count_laps"],
 }
 
 EXAMPLES = [
@@ -40,6 +44,25 @@ EXAMPLES = [
     ("orbits", "permutation", ("RLRC",), "(2, 3, 1, 0)"),
     ("orbits", "is_hump", ((1, 0, 2),), "False"),
     ("orbits", "code_of", ((1, 2, 0),), "'RLC'"),
+    ("strokes", "is_point", ("RLC", (4, 2)), "False"),
+    ("strokes", "image", ("RLC", (3, 2)), "(1, 1)"),
+    ("strokes", "image_after", ("RLC", (1, 2), 3), "(2, 1)"),
+    ("strokes", "itinerary", ("RLC", (16, 9), 5), "'RLRRR'"),
+    ("strokes", "orbit", ("RLC", (1, 2)), "([(1, 2), (3, 2)], [(1, 1), (2, 1), (0, 1)])"),
+    ("strokes", "least_period", ("RLC", (5, 3)), "2"),
+    ("words", "is_word", ("LRR",), "True"),
+    ("words", "word_period", ("RLRL",), "2"),
+    ("words", "is_realised", ("RLRC", "RLR"), "False"),
+    ("words", "point_of_word", ("RLC", "R"), "(4, 3)"),
+    ("forcing", "forces", ("RLC", "RLRRC"), "True"),
+    ("forcing", "words_of", ("RLC",), "('RLR', 'RLL')"),
+    ("forcing", "points_of_code", ("RLC", "RC"), "((4, 3), (5, 3))"),
+    ("forcing", "point_of_period", ("RLC", 4), "(16, 9)"),
+    ("forcing", "periods_up_to", ("RLRRC", 8), "[1, 2, 4, 5, 6, 7, 8]"),
+    ("cycles", "realised_words", ("RLC", 2), "['LR', 'RL']"),
+    ("cycles", "cycles", ("RLC", 2), "[[(5, 3), (2, 3)]]"),
+    ("cycles", "count_returns", ("RLC", 3), "4"),
+    ("cycles", "count_laps", ("RLC", 2), "3"),
 ]
 
 LIBRARY = ["__future__", "collections", "heapq", "itertools", "math"]
