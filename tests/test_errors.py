@@ -1,17 +1,19 @@
 import unittest
 
-from humpcodes import errors
+from humpcodes import errors, wrongs
 from humpcodes.errors import (
     CodeError, Full, Infinite, InvalidCount, InvalidMark, InvalidName, InvalidPeriod, InvalidPermutation,
     InvalidPoint, InvalidWord, NameTaken, Neighbours, NotACertificate, NotACode, NotAdmissible, NotForced, SameCode,
     TooLong, TooMany, UnknownName,
 )
+from humpcodes.wrongs import InvalidFraction, InvalidSize, NotARecord, SameGrowth
 from tests.values import NO_CODES, NO_PERIODS
 
 WITH_MESSAGE = [
     NotACode, NotAdmissible, InvalidPeriod, InvalidCount, InvalidWord, InvalidPoint, InvalidPermutation, SameCode,
     Neighbours, NotForced, TooLong, TooMany, Infinite, NotACertificate,
 ]
+OF_GROWTHS = [InvalidFraction, InvalidSize, SameGrowth, NotARecord]
 WITH_ARGUMENT = [
     (InvalidName, "name"), (NameTaken, "name"), (UnknownName, "name"), (Full, "limit"), (InvalidMark, "number"),
 ]
@@ -30,11 +32,19 @@ class ErrorsTest(unittest.TestCase):
                 self.assertEqual(error.__module__, "humpcodes.errors")
                 self.assertIs(getattr(errors, error.__name__), error)
 
+    def test_errors_of_growths(self):
+        for error in OF_GROWTHS:
+            with self.subTest(error=error.__name__):
+                self.assertEqual(error.__bases__, (CodeError,))
+                self.assertEqual(error.__module__, "humpcodes.wrongs")
+                self.assertIs(getattr(wrongs, error.__name__), error)
+        self.assertEqual(len(set(OF_GROWTHS)), 4)
+
     def test_classes_are_distinct(self):
         self.assertEqual(len(set(WITH_MESSAGE + [error for error, _ in WITH_ARGUMENT])), 19)
 
     def test_created_with_a_message(self):
-        for error in WITH_MESSAGE:
+        for error in WITH_MESSAGE + OF_GROWTHS:
             with self.subTest(error=error.__name__):
                 self.assertIn("some text", str(error("some text")))
                 with self.assertRaises(CodeError):

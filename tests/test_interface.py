@@ -18,6 +18,13 @@ FUNCTIONS = {
     "words": ["is_word", "word_period", "is_realised", "point_of_word"],
     "forcing": ["forces", "words_of", "points_of_code", "point_of_period", "periods_up_to"],
     "cycles": ["realised_words", "cycles", "count_returns", "count_laps"],
+    "checker": ["check"],
+}
+
+METHODS = {
+    ("workspace", "Workspace"): [
+        "put", "multiply", "split", "remove", "mark", "back", "names", "marks", "code", "ranking", "forced_by",
+    ],
 }
 
 EXAMPLES = [
@@ -63,6 +70,7 @@ EXAMPLES = [
     ("cycles", "cycles", ("RLC", 2), "[[(5, 3), (2, 3)]]"),
     ("cycles", "count_returns", ("RLC", 3), "4"),
     ("cycles", "count_laps", ("RLC", 2), "3"),
+    ("checker", "check", (("between", "RC", "RLC", "RLRC"),), "('right',)"),
 ]
 
 LIBRARY = ["__future__", "collections", "heapq", "itertools", "math"]
@@ -83,6 +91,21 @@ class InterfaceTest(unittest.TestCase):
         for module, name, arguments, shown in EXAMPLES:
             with self.subTest(module=module, name=name):
                 self.assertEqual(repr(function_of(module, name)(*arguments)), shown)
+
+    def test_each_method_is_defined_in_its_class(self):
+        for (module, name), methods in METHODS.items():
+            found = function_of(module, name)
+            self.assertEqual(found.__module__, "humpcodes." + module)
+            for method in methods:
+                with self.subTest(module=module, method=method):
+                    self.assertTrue(callable(vars(found)[method]))
+
+    def test_example_of_the_workspace(self):
+        space = function_of("workspace", "Workspace")()
+        self.assertIsNone(space.put("a", "RC"))
+        self.assertIsNone(space.put("b", "RLC"))
+        self.assertIsNone(space.split("c", "a", "b"))
+        self.assertEqual(repr([space.code("c"), space.ranking()]), "['RLRC', ['a', 'c', 'b']]")
 
     def test_examples_cover_the_interface(self):
         shown = [(module, name) for module, name, _, _ in EXAMPLES]
