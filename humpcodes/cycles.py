@@ -4,6 +4,7 @@ from humpcodes.codes import is_odd, order, require_admissible
 from humpcodes.errors import Infinite
 from humpcodes.integers import require_count, require_period
 from humpcodes.orbits import permutation, positions
+from humpcodes.pieces import piece_images
 from humpcodes.products import factors
 from humpcodes.strokes import moved
 from humpcodes.words import ascending_tails, point_among, shortest_part
@@ -44,14 +45,14 @@ def count_returns(code, steps):
     # Where the positions return, exactly one side of each of them returns to
     # itself. So the closed ways that belong to no other point are as many as
     # the positions, and stand for them here.
-    return _count_closed_ways(_images(permutation(code)), steps)
+    return _count_closed_ways(piece_images(permutation(code)), steps)
 
 
 def count_laps(code, steps):
     """Return the number of laps of the iterate with so many steps, from 1 to 60."""
     require_admissible(code)
     require_count(steps, 1, STEP_LIMIT)
-    images = _images(permutation(code))
+    images = piece_images(permutation(code))
     waits = _waits(code)
     inner = [0] * len(images)
     for done in range(steps):
@@ -95,11 +96,6 @@ def _cycle_from(moves, point, period):
 def _ends_in_rc(code):
     """Return True if the last factor of the admissible code is RC."""
     return factors(code)[-1:] == ["RC"]
-
-
-def _images(moves):
-    """Return the least and the greatest position of the image of each piece."""
-    return [(min(one, other), max(one, other)) for one, other in zip(moves, moves[1:])]
 
 
 def _count_closed_ways(images, steps):

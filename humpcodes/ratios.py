@@ -3,6 +3,7 @@
 from math import gcd
 
 from humpcodes.integers import is_whole_number
+from humpcodes.wrongs import InvalidFraction
 
 
 def is_fraction(value):
@@ -21,3 +22,14 @@ def in_lowest_terms(over, under):
     if under < 0:
         common = -common
     return (over // common, under // common)
+
+
+def is_above_one(value):
+    """Return True if the value, any value, is a fraction greater than 1."""
+    return is_fraction(value) and value[0] > value[1]
+
+
+def require_above_one(value):
+    """Raise InvalidFraction unless the value, any value, is a fraction greater than 1."""
+    if not is_above_one(value):
+        raise InvalidFraction("a fraction greater than 1, in lowest terms, is needed")

@@ -24,6 +24,10 @@ MORE_CALLS = [
     ("checker", "check", (("point", "RLC", (5, 3), ["RL"]),)),
     ("checker", "check", (("no period", "RLC", [3]),)),
     ("checker", "check", (("not admissible", "RRC", [1]),)),
+    ("pieces", "are_upper", ("RLC", (5, 3), [3, 5])),
+    ("pieces", "are_upper", ("RLC", (5, 3), ([3], 5))),
+    ("pieces", "are_lower", ("RLC", (8, 5), [5, 8])),
+    ("pieces", "are_lower", ("RLC", (8, 5), (5, [8]))),
 ]
 for _code in SEVERAL:
     MORE_CALLS.extend([
@@ -39,6 +43,11 @@ for _code in SEVERAL:
         ("cycles", "cycles", (_code, 1)),
         ("cycles", "count_returns", (_code, 7)),
         ("cycles", "count_laps", (_code, 7)),
+        ("pieces", "covered_pieces", (_code,)),
+        ("growths", "upper_weights", (_code, (3, 2))),
+        ("growths", "lower_weights", (_code, (3, 2))),
+        ("signs", "growth_value", (_code, (3, 2))),
+        ("tents", "compare_growth", (_code, (3, 2))),
     ])
 
 CALLS = [(module, name, arguments) for module, name, arguments, _ in EXAMPLES] + MORE_CALLS

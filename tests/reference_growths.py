@@ -1,0 +1,111 @@
+"""The definitions of stages 13 to 18, written down as directly as possible with Python's own fractions.
+
+Nothing here uses the program.
+"""
+
+from fractions import Fraction
+from functools import lru_cache
+from math import gcd
+
+from tests import reference
+from tests import reference_maps as maps
+
+
+def pair(r):
+    return (r.numerator, r.denominator)
+
+
+def fractions_up_to(under, limit):
+    """All fractions greater than 1 and not greater than the limit with denominators up to a given one."""
+    return [(a, b) for b in range(1, under + 1) for a in range(b + 1, limit * b + 1) if gcd(a, b) == 1]
+
+
+def covered(code, piece):
+    """The pieces that the image of a piece covers."""
+    return [other for other in range(len(code) - 1) if maps.is_covered(code, piece, other)]
+
+
+def are_weights(value, code, least):
+    return (type(value) is tuple and len(value) == len(code) - 1
+            and all(type(weight) is int and weight >= least for weight in value))
+
+
+def are_upper(code, fraction, value):
+    a, b = fraction
+    return are_weights(value, code, 1) and all(
+        b * sum(value[other] for other in covered(code, piece)) <= a * value[piece] for piece in range(len(value)))
+
+
+def are_lower(code, fraction, value):
+    a, b = fraction
+    return are_weights(value, code, 0) and any(weight > 0 for weight in value) and all(
+        b * sum(value[other] for other in covered(code, piece)) >= a * value[piece] for piece in range(len(value)))
+
+
+def is_growth_less(code, r):
+    """Whether the growth is less than a number: whether all leading minors of r - matrix are positive.
+
+    The matrix tells which piece covers which one, and the growth is its
+    greatest eigenvalue, or 1; r is greater than 1. No fraction greater than 1
+    is an eigenvalue, so the minor of the whole matrix is never 0.
+    """
+    size = len(code) - 1
+    rows = [[r * (one == other) - maps.is_covered(code, one, other) for other in range(size)] for one in range(size)]
+    for step in range(size):
+        if rows[step][step] <= 0:
+            return False
+        for row in rows[step + 1:]:
+            ratio = row[step] / rows[step][step]
+            for place in range(step, size):
+                row[place] -= ratio * rows[step][place]
+    return True
+
+
+def halved(is_less, steps):
+    """The last numbers not less and greater, if the interval from 1 to 2 is halved again and again."""
+    low, high = Fraction(1), Fraction(2)
+    for _ in range(steps):
+        middle = (low + high) / 2
+        if is_less(middle):
+            high = middle
+        else:
+            low = middle
+    return low, high
+
+
+@lru_cache(maxsize=None)
+def growth_within(code, steps=30):
+    """Two fractions, a half to the power steps apart, with the growth between them (or at the first one if it is 1)."""
+    return halved(lambda r: is_growth_less(code, r), steps)
+
+
+def growth_signs(code):
+    signs = [1]
+    for index in range(1, len(code)):
+        signs.append(signs[index - 1] * (1 if code[index - 1] == "L" else -1))
+    return tuple(signs)
+
+
+def growth_value(code, r):
+    signs = growth_signs(code)
+    return sum(sign * r ** (len(code) - 1 - index) for index, sign in enumerate(signs))
+
+
+def tent_letters(r, length):
+    x = Fraction(1)
+    letters = ""
+    for _ in range(length):
+        assert x != 0
+        letters += "L" if x < 0 else "R"
+        x = 1 - r * abs(x)
+    return letters
+
+
+def is_growth_less_by_letters(code, r):
+    """The comparison of point 29."""
+    return r > 2 or reference.compare(tent_letters(r, len(code)), code) > 0
+
+
+def rounded(code, steps=40):
+    """The same by the letters, which is quicker for long codes."""
+    return halved(lambda r: is_growth_less_by_letters(code, r), steps)
