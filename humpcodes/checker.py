@@ -8,9 +8,10 @@ condition that does not hold, or None if all hold.
 from humpcodes.between import are_neighbours
 from humpcodes.codes import LIMIT, is_admissible_code, is_code, order, require_admissible, require_code
 from humpcodes.errors import NotACertificate
+from humpcodes.forms import has_form, verdict
 from humpcodes.integers import is_whole_number
 from humpcodes.least import least_code
-from humpcodes.products import joined
+from humpcodes.products import product_of
 from humpcodes.strokes import image_after, is_point, itinerary
 from humpcodes.words import is_word
 
@@ -28,7 +29,7 @@ def _judge_product(entries):
     require_code(code)
     if not isinstance(parts, list) or not all([is_code(part) for part in parts]):
         return 0
-    return None if _is_product_of(code, parts) else 1
+    return None if product_of(parts, len(code)) == code else 1
 
 
 def _judge_between(entries):
@@ -84,27 +85,8 @@ JUDGES = {
 
 def check(certificate):
     """Return ("right",), or ("wrong", k) if k is the first condition that does not hold."""
-    if not _is_certificate(certificate):
+    if not has_form(certificate, dict(SIZES)):
         raise NotACertificate("this is not a certificate")
     judge = JUDGES[certificate[0]]
-    failed = judge(certificate[1:])
-    return ("right",) if failed is None else ("wrong", failed)
+    return verdict(judge(certificate[1:]))
 
-
-def _is_certificate(value):
-    """Return True if the value, any value, has the form of a certificate."""
-    if not isinstance(value, tuple) or len(value) == 0:
-        return False
-    kind = value[0]
-    return isinstance(kind, str) and kind in SIZES and len(value) == SIZES[kind]
-
-
-def _is_product_of(code, parts):
-    """Return True if the product of the parts is the code."""
-    whole = "C"
-    for part in parts:
-        whole = joined(whole, part)
-        # A product never becomes shorter again; many parts would make it huge.
-        if len(whole) > len(code):
-            return False
-    return whole == code

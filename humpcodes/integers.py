@@ -1,6 +1,7 @@
 """Checks of integers that several files share."""
 
 from humpcodes.errors import InvalidCount, InvalidPeriod
+from humpcodes.wrongs import InvalidSize
 
 
 def is_whole_number(value):
@@ -21,3 +22,9 @@ def require_count(value, least, greatest):
     """Raise InvalidCount unless the value is an integer from the least to the greatest one."""
     if not is_whole_number(value) or not least <= value <= greatest:
         raise InvalidCount("the number is not an integer that is allowed here")
+
+
+def require_size(value, least, greatest):
+    """Raise InvalidSize unless the value is an integer from the least to the greatest one."""
+    if not is_whole_number(value) or not least <= value <= greatest:
+        raise InvalidSize("the size or factor is not an integer that is allowed here")

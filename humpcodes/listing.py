@@ -33,16 +33,14 @@ def _mu(number):
 
 def codes_of_period(period):
     """Return the admissible codes of the period in ascending order."""
-    return [code for code in codes_up_to(period) if len(code) == period]
+    _require_listed(period)
+    return all_of_period(period)
 
 
 def codes_up_to(period):
     """Return the admissible codes of at most the period in ascending order."""
     _require_listed(period)
-    rows = [""]
-    for _ in range(period):
-        rows = [longer for row in rows for longer in _grown(row)]
-    return [row for row in rows if row.endswith("C")]
+    return _all_up_to(period)
 
 
 def next_code(code, period):
@@ -54,10 +52,23 @@ def next_code(code, period):
     return None
 
 
+def all_of_period(period):
+    """Return the admissible codes of the period in ascending order, however many there are."""
+    return [code for code in _all_up_to(period) if len(code) == period]
+
+
 def continued(start):
     """Return the beginnings and the code of one more letter that can be admissible, in ascending order."""
     letters = "RCL" if is_odd(start) else "LCR"
     return [start + letter for letter in letters if first_greater(start + letter) is None]
+
+
+def _all_up_to(period):
+    """Return the admissible codes of at most the period in ascending order, however many there are."""
+    rows = [""]
+    for _ in range(period):
+        rows = [longer for row in rows for longer in _grown(row)]
+    return [row for row in rows if row.endswith("C")]
 
 
 def _grown(row):

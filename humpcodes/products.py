@@ -46,6 +46,17 @@ def joined(first, second):
     return "".join([start + letter for letter in _turned(second, start)])
 
 
+def product_of(parts, limit):
+    """Return the product of a list of codes from left to right, or None if it is longer than the limit."""
+    whole = "C"
+    for part in parts:
+        whole = joined(whole, part)
+        # A product never becomes shorter again; many parts would make it huge.
+        if len(whole) > limit:
+            return None
+    return whole
+
+
 def _turned(letters, start):
     """Return the letters as they follow the start of a block: L and R are exchanged if it is odd."""
     if not is_odd(start):

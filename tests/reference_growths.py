@@ -109,3 +109,62 @@ def is_growth_less_by_letters(code, r):
 def rounded(code, steps=40):
     """The same by the letters, which is quicker for long codes."""
     return halved(lambda r: is_growth_less_by_letters(code, r), steps)
+
+
+SCALE = 10 ** 30
+
+
+@lru_cache(maxsize=None)
+def growth(code):
+    """The floor of the growth for the size SCALE, which is large enough to tell the growths of the tests apart."""
+    low, high = SCALE, 2 * SCALE
+    while high - low > 1:
+        middle = (low + high) // 2
+        if reference.compare(scaled_letters(middle, SCALE, len(code)), code) > 0:
+            high = middle
+        else:
+            low = middle
+    return low
+
+
+def scaled_letters(a, b, length):
+    """The letters of the tent map of a / b, step by step with integers, which is quicker."""
+    letters = ""
+    x, unit = 1, 1
+    for _ in range(length):
+        letters += "L" if x < 0 else "R"
+        x, unit = unit * b - a * abs(x), unit * b
+    return letters
+
+
+def growth_class(code):
+    """The growth class, by the list of factors of which there is only one."""
+    parts = reference.factorings(code)[0]
+    ahead = 0
+    while ahead < len(parts) and parts[ahead] == "RC":
+        ahead += 1
+    return (ahead, parts[ahead]) if ahead < len(parts) else None
+
+
+def floor(code, size):
+    return growth(code) * size // SCALE
+
+
+def simplest(low, high):
+    """The fraction with the least denominator between two numbers, with the least numerator of these, by trying."""
+    under = 1
+    while True:
+        over = low * under // 1 + 1
+        if over < high * under:
+            return over, under
+        under += 1
+
+
+def parents(fraction):
+    """The two fractions with less denominators between which the fraction is the next one."""
+    a, b = fraction
+    if b == 1:
+        return (a - 1, 1), (1, 0)
+    under = pow(a, -1, b)
+    over = (a * under - 1) // b
+    return (over, under), (a - over, b - under)

@@ -23,11 +23,16 @@ FUNCTIONS = {
     "growths": ["upper_weights", "lower_weights"],
     "signs": ["growth_signs", "growth_value"],
     "tents": ["tent_letters", "compare_growth"],
+    "kinds": ["growth_class", "compare_growths", "codes_of_growth", "count_of_growth"],
+    "floors": ["growth_floor", "simplest_fraction", "codes_beside"],
+    "records": ["judge"],
 }
 
+OF_WORKSPACE = ["put", "multiply", "split", "remove", "mark", "back", "names", "marks", "code", "ranking", "forced_by"]
 METHODS = {
-    ("workspace", "Workspace"): [
-        "put", "multiply", "split", "remove", "mark", "back", "names", "marks", "code", "ranking", "forced_by",
+    ("workspace", "Workspace"): OF_WORKSPACE,
+    ("ladder", "Ladder"): OF_WORKSPACE + [
+        "growth_ranking", "growing_like", "between_fractions", "wedge", "refine", "size", "rungs",
     ],
 }
 
@@ -92,6 +97,22 @@ EXAMPLES = [
     ("tents", "compare_growth", ("RLC", (3, 2)), "1"),
     ("tents", "compare_growth", ("RLC", (17, 10)), "-1"),
     ("tents", "compare_growth", ("C", (5, 1)), "-1"),
+    ("kinds", "growth_class", ("RLRRRC",), "(1, 'RLC')"),
+    ("kinds", "growth_class", ("RLRC",), "None"),
+    ("kinds", "growth_class", ("RLLRLC",), "(0, 'RLC')"),
+    ("kinds", "compare_growths", ("RLC", "RLLRLC"), "0"),
+    ("kinds", "codes_of_growth", ("RLC", 6), "['RLLRLC']"),
+    ("kinds", "codes_of_growth", ("RC", 4), "['RLRC']"),
+    ("kinds", "count_of_growth", ("RLC", 9), "1"),
+    ("floors", "growth_floor", ("RLC", 1000), "1618"),
+    ("floors", "growth_floor", ("RLRC", 7), "7"),
+    ("floors", "simplest_fraction", ("RLC", "RC"), "(3, 2)"),
+    ("floors", "simplest_fraction", ("RLC", "RLLC"), "(5, 3)"),
+    ("floors", "codes_beside", ((3, 2), 4), "('RLRC', 'RLC')"),
+    ("floors", "codes_beside", ((2, 1), 3), "('RLC', None)"),
+    ("records", "judge", (("upper", "RLC", (5, 3), (3, 5)),), "('right',)"),
+    ("records", "judge", (("tent", "RLC", (3, 2), 2, -1),), "('wrong', 3)"),
+    ("records", "judge", (("class", "RLRRRC", 1, "RLC", "C"),), "('right',)"),
 ]
 
 LIBRARY = ["__future__", "collections", "heapq", "itertools", "math"]
@@ -127,6 +148,18 @@ class InterfaceTest(unittest.TestCase):
         self.assertIsNone(space.put("b", "RLC"))
         self.assertIsNone(space.split("c", "a", "b"))
         self.assertEqual(repr([space.code("c"), space.ranking()]), "['RLRC', ['a', 'c', 'b']]")
+
+    def test_example_of_the_ladder(self):
+        ladder = function_of("ladder", "Ladder")()
+        self.assertIsNone(ladder.put("a", "RLC"))
+        self.assertIsNone(ladder.put("b", "RC"))
+        self.assertIsNone(ladder.multiply("c", "a", "b"))
+        self.assertIsNone(ladder.multiply("d", "b", "a"))
+        found = [ladder.growth_ranking(), ladder.growing_like("c"), ladder.between_fractions((6, 5), (3, 2)),
+                 ladder.wedge("a", "d")]
+        self.assertEqual(repr(found), "[[['b'], ['d'], ['a', 'c']], ['a'], ['d'], (3, 2)]")
+        self.assertIsNone(ladder.refine(10))
+        self.assertEqual(repr([ladder.size(), ladder.rungs()]), "[10, [(10, ['b']), (12, ['d']), (16, ['a', 'c'])]]")
 
     def test_examples_cover_the_interface(self):
         shown = dict.fromkeys((module, name) for module, name, _, _ in EXAMPLES)

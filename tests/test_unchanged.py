@@ -28,6 +28,15 @@ MORE_CALLS = [
     ("pieces", "are_upper", ("RLC", (5, 3), ([3], 5))),
     ("pieces", "are_lower", ("RLC", (8, 5), [5, 8])),
     ("pieces", "are_lower", ("RLC", (8, 5), (5, [8]))),
+    ("kinds", "codes_of_growth", ("RLC", 36)),
+    ("floors", "codes_beside", ((3, 2), 12)),
+    ("floors", "simplest_fraction", (TOP, "R" + "L" * 37 + "C")),
+    ("records", "judge", (("upper", "RLC", (5, 3), [3, 5]),)),
+    ("records", "judge", (("lower", "RLC", (8, 5), (5, [8])),)),
+    ("records", "judge", (("flat", "RLC", [1]),)),
+    ("records", "judge", (("class", "RLRRRC", 1, ["RLC"], ["C"]),)),
+    ("records", "judge", (("apart", "RC", "RLC", (3, 2), (1,), [2, 3]),)),
+    ("records", "judge", (("tent", "RLC", [3, 2], [2], [1]),)),
 ]
 for _code in SEVERAL:
     MORE_CALLS.extend([
@@ -48,6 +57,10 @@ for _code in SEVERAL:
         ("growths", "lower_weights", (_code, (3, 2))),
         ("signs", "growth_value", (_code, (3, 2))),
         ("tents", "compare_growth", (_code, (3, 2))),
+        ("kinds", "growth_class", (_code,)),
+        ("kinds", "codes_of_growth", (_code, 12)),
+        ("kinds", "codes_of_growth", (_code, 40)),
+        ("floors", "growth_floor", (_code, 1000)),
     ])
 
 CALLS = [(module, name, arguments) for module, name, arguments, _ in EXAMPLES] + MORE_CALLS
@@ -79,15 +92,22 @@ def spoil(value):
     return len(lists)
 
 
-def filled_workspace():
-    space = importlib.import_module("humpcodes.workspace").Workspace()
-    for name, code in zip("hgfedcba", SEVERAL):
-        space.put(name, code)
+def filled(module, name):
+    space = getattr(importlib.import_module("humpcodes." + module), name)()
+    for letter, code in zip("hgfedcba", SEVERAL):
+        space.put(letter, code)
     space.mark()
     space.multiply("z", "g", "f")
     space.split("y", "f", "a")
     space.mark()
     return space
+
+
+def filled_ladder():
+    ladder = filled("ladder", "Ladder")
+    ladder.refine(1000)
+    ladder.mark()
+    return ladder
 
 
 def state_of(space):
@@ -96,25 +116,37 @@ def state_of(space):
             [space.forced_by(name) for name in names]]
 
 
+def state_of_ladder(ladder):
+    return state_of(ladder) + [
+        ladder.growth_ranking(), [ladder.growing_like(name) for name in ladder.names()], ladder.rungs(), ladder.size(),
+        ladder.between_fractions((3, 2), (2, 1)), ladder.wedge("a", "h"),
+    ]
+
+
 class UnchangedTest(unittest.TestCase):
     def test_every_function_is_called(self):
         called = {(module, name) for module, name, _ in CALLS}
         self.assertEqual(called, {(module, name) for module, names in FUNCTIONS.items() for name in names})
-        self.assertEqual(list(METHODS), [("workspace", "Workspace")])
+        self.assertEqual(list(METHODS), [("workspace", "Workspace"), ("ladder", "Ladder")])
 
     def test_changed_results(self):
-        space = filled_workspace()
+        space, ladder = filled("workspace", "Workspace"), filled_ladder()
         first = [copy.deepcopy(run(call)) for call in CALLS]
-        state = copy.deepcopy(state_of(space))
-        self.assertGreater(sum(spoil(run(call)) for call in CALLS), 60)
+        state, of_ladder = copy.deepcopy(state_of(space)), copy.deepcopy(state_of_ladder(ladder))
+        self.assertGreater(sum(spoil(run(call)) for call in CALLS), 90)
         self.assertGreater(spoil(state_of(space)), 13)
+        self.assertGreater(spoil(state_of_ladder(ladder)), 40)
         self.assertEqual([run(call) for call in CALLS], first)
         self.assertEqual(state_of(space), state)
+        self.assertEqual(state_of_ladder(ladder), of_ladder)
         # Another order of the calls makes no difference either.
         self.assertEqual([run(call) for call in reversed(CALLS)], first[::-1])
-        self.assertEqual(state_of(filled_workspace()), state)
+        self.assertEqual(state_of(filled("workspace", "Workspace")), state)
+        self.assertEqual(state_of_ladder(filled_ladder()), of_ladder)
         space.back(1)
         self.assertEqual(state_of(space), state)
+        ladder.back(2)
+        self.assertEqual(state_of_ladder(ladder), of_ladder)
 
     def test_arguments_are_not_modified(self):
         kept = copy.deepcopy(CALLS)

@@ -110,6 +110,10 @@ def is_admissible(value):
 
 
 class WorkspaceCases(Cases):
+    # The ladder is tested in the same way.
+    kind = Workspace
+    model = Model
+
     def check_error(self, wrong, method, *arguments):
         error, attribute, value = wrong
         with self.assertRaises(error) as caught:
@@ -150,7 +154,7 @@ class WorkspaceCases(Cases):
 
     def filled(self, codes):
         """A workspace and a model with these codes under the names a, b, c, ..."""
-        space, model = Workspace(), Model()
+        space, model = self.kind(), self.model()
         for name, code in zip("abcdefghijkl", codes):
             self.assertIsNone(self.do(space, model, "put", name, code))
         return space, model
@@ -182,7 +186,7 @@ class HistoryTest(WorkspaceCases):
         seen = {}
         for seed in range(16):
             source = random.Random(seed)
-            space, model = Workspace(), Model()
+            space, model = self.kind(), self.model()
             for _ in range(400):
                 method, arguments = self.random_call(source, seed % 4)
                 wrong = self.do(space, model, method, *arguments)
@@ -199,8 +203,8 @@ class HistoryTest(WorkspaceCases):
         self.assertEqual(set(seen), {(method, wrong) for method, all_wrong in expected.items() for wrong in all_wrong})
 
     def test_two_workspaces(self):
-        one, other = Workspace(), Workspace()
-        model, other_model = Model(), Model()
+        one, other = self.kind(), self.kind()
+        model, other_model = self.model(), self.model()
         source = random.Random(77)
         for _ in range(200):
             for space, plain in ((one, model), (other, other_model)):
@@ -210,23 +214,23 @@ class HistoryTest(WorkspaceCases):
                 self.check_state(other, other_model)
 
     def test_new_workspace_is_empty(self):
-        Workspace().put("a", "RC")
-        space = Workspace()
+        self.kind().put("a", "RC")
+        space = self.kind()
         self.assertEqual([space.names(), space.marks(), space.ranking()], [[], [], []])
 
 
 class NamesTest(WorkspaceCases):
     def test_names_that_are_allowed(self):
         for name in ["a", "z", "az", "abcdefgh", "zzzzzzzz", "m", "none", "true"]:
-            space = Workspace()
+            space = self.kind()
             self.assertIsNone(space.put(name, "RLC"))
             self.assertEqual(space.names(), [name])
             self.assertEqual(space.code(name), "RLC")
         for letter in "abcdefghijklmnopqrstuvwxyz":
             for length in range(1, 10):
                 wrong = None if length <= 8 else (InvalidName, "name", letter * length)
-                self.assertEqual(Model().wrong_name(letter * length), wrong)
-                space = Workspace()
+                self.assertEqual(self.model().wrong_name(letter * length), wrong)
+                space = self.kind()
                 if wrong is None:
                     space.put(letter * length, "C")
                 else:
@@ -255,7 +259,7 @@ class NamesTest(WorkspaceCases):
         self.check_state(space, model)
 
     def test_attribute_is_the_argument_itself(self):
-        space = Workspace()
+        space = self.kind()
         value = ["a"]
         for method, arguments in (("put", (value, "RC")), ("remove", (value,)), ("code", (value,)),
                                   ("forced_by", (value,)), ("back", (value,)), ("split", (value, "a", "b"))):
@@ -296,7 +300,7 @@ class NamesTest(WorkspaceCases):
 class PutTest(WorkspaceCases):
     def test_codes(self):
         for code in reference.admissible_up_to(7) + reference.long_codes(40) + (TOP,):
-            space = Workspace()
+            space = self.kind()
             self.assertIsNone(space.put("a", code))
             self.assertEqual(space.code("a"), code)
 
@@ -345,7 +349,7 @@ class MultiplyAndSplitTest(WorkspaceCases):
         codes = reference.admissible_up_to(6)
         for first in codes[::2]:
             for second in codes:
-                space = Workspace()
+                space = self.kind()
                 space.put("a", first)
                 space.put("b", second)
                 self.assertIsNone(space.multiply("c", "a", "b"))
@@ -450,7 +454,7 @@ class MarksTest(WorkspaceCases):
                 self.check_state(space, model)
 
     def test_no_marks(self):
-        space = Workspace()
+        space = self.kind()
         for number in (0, 1, -1, True, False, None):
             self.check_error((InvalidMark, "number", number), space.back, number)
         self.assertEqual(space.marks(), [])
@@ -481,7 +485,7 @@ class MarksTest(WorkspaceCases):
             self.assertEqual(space.code("a"), "RC")
 
     def test_mark_of_nothing(self):
-        space = Workspace()
+        space = self.kind()
         self.assertEqual(space.mark(), 0)
         space.put("a", "RC")
         space.back(0)
@@ -504,7 +508,7 @@ class MarksTest(WorkspaceCases):
 
 class RankingTest(WorkspaceCases):
     def test_equal_codes(self):
-        space, model = Workspace(), Model()
+        space, model = self.kind(), self.model()
         for name, code in (("d", "RLC"), ("b", "RC"), ("c", "RLC"), ("a", "RLLC"), ("e", "RC"), ("z", "C")):
             self.do(space, model, "put", name, code)
         self.assertEqual(space.ranking(), ["z", "b", "e", "c", "d", "a"])
@@ -516,7 +520,7 @@ class RankingTest(WorkspaceCases):
         self.check_state(space, model)
 
     def test_names_are_ascending(self):
-        space = Workspace()
+        space = self.kind()
         for name in ("b", "ab", "aab", "a", "aa", "ba"):
             space.put(name, "RLC")
         self.assertEqual(space.names(), ["a", "aa", "aab", "ab", "b", "ba"])
